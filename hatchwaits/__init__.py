@@ -1,0 +1,1 @@
+"""Hatchwaits: a house, its hands and its line, beat by beat."""
