@@ -1,0 +1,148 @@
+"""One beat told a second time, by persons who keep who they are, and random houses, stands and ways."""
+
+from tests.helpers import KEEPING, RULES, chance
+
+
+class Body:
+    """One who comes to a house, lost or let in."""
+
+    def __init__(self, rank, left, begun, beat):
+        self.rank, self.left, self.begun, self.beat = rank, left, begun, beat
+        self.lost, self.gone_at, self.waits = False, None, 0
+
+    def person(self):
+        return (self.rank, self.left, self.begun)
+
+    def course(self):
+        if self.lost:
+            return ("lost", self.beat)
+        if self.gone_at is None:
+            return ("in", self.beat, self.waits)
+        return ("gone", self.beat, self.gone_at, self.waits)
+
+
+def choose_one(rule, line):
+    if rule.startswith("last"):
+        return line[-1]
+    if rule.startswith("short"):
+        return min(line, key=lambda body: body.left)
+    if rule.startswith("front"):
+        return min(line, key=lambda body: body.rank)
+    return line[0]
+
+
+def choose(house, line):
+    hands, places, rule = house
+    chosen = [body for body in line if rule in KEEPING and body.begun]
+    while len(chosen) < hands and len(chosen) < len(line):
+        chosen.append(choose_one(rule, [body for body in line if body not in chosen]))
+    return chosen
+
+
+class House:
+    """A house that is led through beats, with all that may be asked of it."""
+
+    def __init__(self, house, stand):
+        self.house, self.moment = house, 0
+        self.line = [Body(rank, left, begun, None) for rank, left, begun in stand]
+        self.bodies = []
+
+    def stand(self):
+        return tuple(body.person() for body in self.line)
+
+    def come(self, beat):
+        """Let the comers in; how many are lost."""
+        lost = 0
+        for rank, work in beat:
+            body = Body(rank, work, False, self.moment)
+            self.bodies.append(body)
+            if self.house[1] is None or len(self.line) < self.house[1]:
+                self.line.append(body)
+            else:
+                body.lost = True
+                lost += 1
+        return lost
+
+    def places_picked(self):
+        chosen = choose(self.house, self.line)
+        return tuple(place for place, body in enumerate(self.line) if body in chosen)
+
+    def work(self):
+        """The hands' part of the beat; the places of the gone."""
+        chosen, ahead = choose(self.house, self.line), list(self.line)
+        self.moment += 1
+        for body in ahead:
+            if body not in chosen:
+                body.waits += 1
+                continue
+            body.left -= 1
+            body.begun = self.house[2] in KEEPING
+            if body.left == 0:
+                body.gone_at = self.moment
+                self.line.remove(body)
+            elif self.house[2] == "turns":
+                self.line.remove(body)
+                self.line.append(body)
+        return tuple(place for place, body in enumerate(ahead) if body.gone_at is not None)
+
+
+def simulated_run(house, way, stand):
+    led = House(house, stand)
+    stands, lost, gone = [stand], [], []
+    for beat in way:
+        lost.append(led.come(beat))
+        gone.append(len(led.work()))
+        stands.append(led.stand())
+    return (tuple(stands), tuple(lost), tuple(gone))
+
+
+def simulated_courses(house, way):
+    led = House(house, ())
+    for beat in way:
+        led.come(beat)
+        led.work()
+    return [body.course() for body in led.bodies]
+
+
+def drawn_house(draw, rule=None):
+    return (draw.randint(1, 3), draw.choice([None, draw.randint(0, 6)]), rule or draw.choice(RULES))
+
+
+def drawn_stand(draw, house, most=8):
+    hands, places, rule = house
+    many = draw.randint(0, most if places is None else min(most, places))
+    begun = [False] * many
+    if rule in KEEPING:
+        for place in draw.sample(range(many), draw.randint(0, min(hands, many))):
+            begun[place] = True
+    return tuple((draw.randint(0, 1), draw.randint(1, 6), begun[place]) for place in range(many))
+
+
+def drawn_beat(draw, comers=3, work=6):
+    return tuple((draw.randint(0, 1), draw.randint(1, work)) for k in range(draw.randint(0, comers)))
+
+
+def drawn_way(draw, beats=12, comers=3, work=6):
+    return tuple(drawn_beat(draw, comers, work) for k in range(draw.randint(0, beats)))
+
+
+def houses_and_ways(seed, turns, beats=12, comers=3, work=6):
+    """Each rule with houses and ways of all sorts, slack ones and crowded ones."""
+    draw = chance(seed)
+    told = []
+    for turn in range(turns):
+        for rule in RULES:
+            way = drawn_way(draw, beats, draw.randint(1, comers), draw.randint(1, work))
+            told.append((drawn_house(draw, rule), way))
+    return told
+
+
+def ways(seed, turns, beats=12, comers=3, work=6):
+    """The void way, ways of void beats, and drawn ones."""
+    draw = chance(seed)
+    told = [(), ((),), ((), ()), (((0, 1),),), (((1, 1),),), ((), ((0, 2), (1, 3)), ())]
+    return told + [drawn_way(draw, beats, draw.randint(1, comers), draw.randint(1, work)) for turn in range(turns)]
+
+
+# As many BEATs and COMERS as the bounds let a WAY have, 24 and forty.
+LONGEST = (((0, 6), (1, 6), (0, 1)),) * 8 + ((),) * 8 + (((1, 5), (0, 4)),) * 8
