@@ -1,6 +1,10 @@
 """One beat told a second time, by persons who keep who they are, and random houses, stands and ways."""
 
-from tests.helpers import KEEPING, RULES, chance
+import itertools
+import math
+from fractions import Fraction
+
+from tests.helpers import KEEPING, RULES, chance, plain
 
 
 class Body:
@@ -146,3 +150,49 @@ def ways(seed, turns, beats=12, comers=3, work=6):
 
 # As many BEATs and COMERS as the bounds let a WAY have, 24 and forty.
 LONGEST = (((0, 6), (1, 6), (0, 1)),) * 8 + ((),) * 8 + (((1, 5), (0, 4)),) * 8
+
+
+def led(house, stand, beat):
+    """The stand behind a beat."""
+    told = House(house, stand)
+    told.come(beat)
+    told.work()
+    return told.stand()
+
+
+def drawn_beats(draw, beats=6, comers=2, work=3, least=0):
+    """BEATS of at most so many beats, each of at least so many comers."""
+    unlike = {tuple((draw.randint(0, 1), draw.randint(1, work)) for k in range(draw.randint(least, comers)))
+              for turn in range(draw.randint(1, beats))}
+    return tuple((beat, draw.randint(1, 12)) for beat in sorted(unlike))
+
+
+def drawn_row(draw, house, stands=5, most=4):
+    """A ROW of at most so many stands, some of its shares alike."""
+    unlike = sorted({drawn_stand(draw, house, most) for turn in range(draw.randint(1, stands))})
+    lots = [draw.randint(1, 6) for stand in unlike]
+    return tuple((stand, plain(Fraction(lot, sum(lots)))) for stand, lot in zip(unlike, lots))
+
+
+def even_row(stands):
+    """The ROW that has all these stands, one as likely as the other."""
+    return tuple((stand, (1, len(stands))) for stand in sorted(stands))
+
+
+def weighed_beats(beats):
+    """Each beat with its chance."""
+    lots = sum(lot for beat, lot in beats)
+    return [(beat, Fraction(lot, lots)) for beat, lot in beats]
+
+
+def weighed_ways(beats, t):
+    """Each way of t beats with its chance."""
+    for entries in itertools.product(weighed_beats(beats), repeat=t):
+        chances = [chance_of for beat, chance_of in entries]
+        yield tuple(beat for beat, chance_of in entries), math.prod(chances, start=Fraction(1))
+
+
+def stuck_beats(works=(1,)):
+    """BEATS that leave an empty house of one hand and two places, under a rule that takes the last one, with one who
+    waits for ever: two come in each beat, the first one of another sort in each."""
+    return tuple((((rank, work), (rank, work)), 1 + rank + work) for rank in (0, 1) for work in works)
