@@ -196,3 +196,34 @@ def stuck_beats(works=(1,)):
     """BEATS that leave an empty house of one hand and two places, under a rule that takes the last one, with one who
     waits for ever: two come in each beat, the first one of another sort in each."""
     return tuple((((rank, work), (rank, work)), 1 + rank + work) for rank in (0, 1) for work in works)
+
+
+def drawn_flows(seed, turns):
+    """FLOWS of all sorts, with noughts and without."""
+    draw = chance(seed)
+    told = [(1,), (7,), (0, 1), (0, 0, 3), (1, 0, 1), (2, 2), (6, 3, 1), (0, 0, 0, 0, 12), (12,) * 9, (0, 5, 0, 0, 10)]
+    told += [(0, 12), (5, 0, 5), (3, 1, 3), (4, 0, 1, 1), (12, 0, 0, 0, 0, 0, 0, 0, 1), (12, 12), (9, 1, 1, 1), (2, 0, 0, 1)]
+    for turn in range(turns):
+        lots = tuple(draw.choice([0, draw.randint(0, 12)]) for k in range(draw.randint(0, 4)))
+        told.append((draw.choice([0, 2, 12, 12]),) + lots + (draw.randint(1, 12),))
+    return told
+
+
+def sorted_flows(seed, turns=60):
+    """Drawn FLOWS by their words with one hand."""
+    told = {"rests": [], "runs": [], "swings": [], "still": []}
+    for flow in drawn_flows(seed, turns):
+        more = sum(lot * (k - 1) for k, lot in enumerate(flow))
+        same = [k for k, lot in enumerate(flow) if lot] == [1]
+        told["still" if same else "swings" if more == 0 else "runs" if more > 0 else "rests"].append(flow)
+    return told
+
+
+def chances_of(flow):
+    """The numbers that a FLOW may bring, each with its chance."""
+    return [(k, Fraction(lot, sum(flow))) for k, lot in enumerate(flow) if lot > 0]
+
+
+def one_beat_of_work(work, brought):
+    """The work at the next moment, one hand, no bound."""
+    return work + brought - 1 if work + brought > 0 else 0

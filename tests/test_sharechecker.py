@@ -50,11 +50,12 @@ class CheckerCase(PlainCase):
 
     def refused(self, word, number, case, thing):
         handed = repr(thing)
-        with self.assertRaises(NoPaper) as caught:
-            lets_shares(*case, thing)
-        self.assertIs(NoPaper, type(caught.exception))
-        self.same((caught.exception.word, caught.exception.number), (word, number))
-        self.assertEqual(handed, repr(thing))
+        for turn in range(2):
+            with self.assertRaises(NoPaper) as caught:
+                lets_shares(*case, thing)
+            self.assertIs(NoPaper, type(caught.exception))
+            self.same((caught.exception.word, caught.exception.number), (word, number))
+            self.assertEqual(handed, repr(thing))
 
     def as_due(self, case, thing):
         """The checker tells what promise 47 does; told is the word of it."""
