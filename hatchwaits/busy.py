@@ -3,25 +3,28 @@
 from hatchwaits.chances import NOUGHT, ONE, added
 from hatchwaits.errors import NoRest
 from hatchwaits.fractions import fraction, minus, times
-from hatchwaits.lots import folded, share_of
+from hatchwaits.lots import folded, share_of, total
 
 
 def brought_by(flow, many):
-    """The FLOWS of what 0 beats, 1 beat and so on bring, so many of them."""
+    """For 0 beats, 1 beat and so on, so many of them: the LOTS of what they bring, below many, and the sum of all."""
     told = []
-    brought = (1,)
+    brought, lots = (1,), 1
     for k in range(many):
-        told.append(brought)
-        brought = folded(brought, flow)
+        told.append((brought, lots))
+        # As much as many or more is never asked for, so a long FLOW needn't be folded whole.
+        brought = folded(brought, flow[:many])[:many]
+        lots *= total(flow)
     return told
 
 
-def empty_at(k, brought, w):
-    """The chance that the house is EMPTY AT k, from a WORK w; brought is the FLOW of k beats."""
+def empty_at(k, brought, lots, w):
+    """The chance that the house is EMPTY AT k, from a WORK w, by the LOTS of k beats and their sum."""
     if k == 0:
         return ONE if w == 0 else NOUGHT
     # Of the orders in which k beats bring just k less w, w in k come to 0 at k for the first time.
-    return times(fraction(w, k), share_of(brought, k - w))
+    lot = brought[k - w] if 0 <= k - w < len(brought) else 0
+    return fraction(w * lot, k * lots)
 
 
 def with_missing(row):
@@ -31,7 +34,7 @@ def with_missing(row):
 
 def busy_row(flow, w, n):
     """The BUSY ROW of a FLOW, a WORK w and n: a tuple (row, missing)."""
-    return with_missing([empty_at(k, brought, w) for k, brought in enumerate(brought_by(flow, n + 1))])
+    return with_missing([empty_at(k, brought, lots, w) for k, (brought, lots) in enumerate(brought_by(flow, n + 1))])
 
 
 def first_busy(flow, n):
@@ -41,6 +44,6 @@ def first_busy(flow, n):
     # By a beat that brings x, known to be above 0, the WORK at moment 1 is x less 1.
     at_one = flow[1:]
     row = [NOUGHT]
-    for k, brought in enumerate(brought_by(flow, n)):
-        row.append(added([times(share_of(at_one, w), empty_at(k, brought, w)) for w in range(len(at_one))]))
+    for k, (brought, lots) in enumerate(brought_by(flow, n)):
+        row.append(added([times(share_of(at_one, w), empty_at(k, brought, lots, w)) for w in range(len(at_one))]))
     return with_missing(row)

@@ -7,6 +7,7 @@ from fractions import Fraction
 from hatchwaits.busy import busy_row, first_busy
 from hatchwaits.comings import flow_of
 from hatchwaits.errors import NoRest
+from hatchwaits.lots import times_over
 from hatchwaits.stays import stay_row
 from tests.helpers import LONG, RULES, PlainCase, chance, plain
 from tests.simulation import (
@@ -121,6 +122,13 @@ class Busy(PlainCase):
             stand = drawn_stand(draw, house, 2) + ((draw.randint(0, 1), draw.randint(1, 3), False),)
             row, missing = busy_row(flow_of(beats), stand[-1][1], 4)
             self.same(stay_row(house, beats, stand, len(stand) - 1, 4), (row[1:], missing))
+
+
+    def test_a_long_flow(self):
+        flow = times_over((3, 0, 0, 1), 40)
+        for w in (0, 1, 3):
+            self.tells(walked_busy(flow, {w: Fraction(1)}, 0, 3), busy_row, flow, w, 3)
+        self.assertEqual(17, len(busy_row(times_over((12,) * 9, 40), 3, 16)[0]))
 
 
 class FirstBusy(PlainCase):
