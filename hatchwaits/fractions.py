@@ -48,6 +48,15 @@ def over(one, other):
     return fraction(one[0] * other[1], one[1] * other[0])
 
 
+def power(one, n):
+    """A FRACTION to the power of a NUMBER n from 0 on."""
+    # No common divisor comes of multiplying with itself, so these are lowest terms already.
+    top, bottom = 1, 1
+    for turn in range(n):
+        top, bottom = top * one[0], bottom * one[1]
+    return (top, bottom)
+
+
 def less(one, other):
     """Tell whether the one FRACTION is less than the other."""
     return one[0] * other[1] < other[0] * one[1]

@@ -192,6 +192,11 @@ def weighed_ways(beats, t):
         yield tuple(beat for beat, chance_of in entries), math.prod(chances, start=Fraction(1))
 
 
+def greatest(beats):
+    """The greatest work that comes, 0 where nobody does."""
+    return max([work for beat, lot in beats for rank, work in beat] + [0])
+
+
 def stuck_beats(works=(1,)):
     """BEATS that leave an empty house of one hand and two places, under a rule that takes the last one, with one who
     waits for ever: two come in each beat, the first one of another sort in each."""
@@ -209,13 +214,20 @@ def drawn_flows(seed, turns):
     return told
 
 
-def sorted_flows(seed, turns=60):
-    """Drawn FLOWS by their words with one hand."""
+def word_for(flow, hands):
+    """The word of a FLOW and hands."""
+    more = sum(lot * (k - hands) for k, lot in enumerate(flow))
+    if more != 0:
+        return "runs" if more > 0 else "rests"
+    return "still" if [k for k, lot in enumerate(flow) if lot] == [hands] else "swings"
+
+
+def sorted_flows(seed, turns=60, hands=1):
+    """Drawn FLOWS by their words with so many hands, some of which bring little less than the hands at least."""
     told = {"rests": [], "runs": [], "swings": [], "still": []}
     for flow in drawn_flows(seed, turns):
-        more = sum(lot * (k - 1) for k, lot in enumerate(flow))
-        same = [k for k, lot in enumerate(flow) if lot] == [1]
-        told["still" if same else "swings" if more == 0 else "runs" if more > 0 else "rests"].append(flow)
+        for lots in sorted({flow, (0,) * (hands - 1) + flow}):
+            told[word_for(lots, hands)].append(lots)
     return told
 
 
