@@ -16,13 +16,19 @@ def keeps(rule):
     return rule in KEEPING
 
 
+def is_places(thing):
+    """Tell whether any thing tells the places of a HOUSE: a NUMBER, or None where there is no bound."""
+    return thing is None or is_number_from(0, thing)
+
+
+def is_rule(thing):
+    """Tell whether any thing is one of the eight words of rules."""
+    return isinstance(thing, str) and thing in words()
+
+
 def is_house(thing):
     """Tell whether any thing is a HOUSE."""
-    if not is_tuple_of(3, thing):
-        return False
-    hands, places, rule = thing
-    bounded_right = places is None or is_number_from(0, places)
-    return is_number_from(1, hands) and bounded_right and isinstance(rule, str) and rule in words()
+    return is_tuple_of(3, thing) and is_number_from(1, thing[0]) and is_places(thing[1]) and is_rule(thing[2])
 
 
 def is_person(thing):

@@ -9,6 +9,12 @@ from hatchwaits.kinds import is_tuple_of
 from hatchwaits.stepping import step
 
 AT_A_PAIR = ("line", "count", "work")
+IN_A_BEAT = ("lost", "gone")
+
+
+def is_question(thing):
+    """Tell whether any thing is a QUESTION."""
+    return isinstance(thing, str) and thing in AT_A_PAIR + IN_A_BEAT
 
 
 def is_pair(houses, thing):
